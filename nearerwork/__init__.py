@@ -1,0 +1,1 @@
+"""Nearerwork: plans made nearer to the work, step by step."""
