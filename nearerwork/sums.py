@@ -5,6 +5,10 @@ def bracketed(one, sign, other):
     return " ".join(["(", one.shown(), sign, other.shown(), ")"])
 
 
+def names_of_two(one, other):
+    return sorted(set(one.named() + other.named()))
+
+
 class Sum:
     def worth(self, values):
         return 0
@@ -48,7 +52,7 @@ class Twofold(Sum):
         self.other = other
 
     def named(self):
-        return sorted(set(self.one.named() + self.other.named()))
+        return names_of_two(self.one, self.other)
 
 
 class Plus(Twofold):

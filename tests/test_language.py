@@ -19,6 +19,11 @@ BUILT_IN = (
     "repr any all divmod Exception ValueError TypeError KeyError IndexError LookupError ZeroDivisionError "
     "ArithmeticError OverflowError RuntimeError NotImplementedError AttributeError StopIteration"
 ).split()
+METHODS = (
+    "append clear copy count endswith extend find get index insert isalnum isalpha isdigit islower isspace isupper items "
+    "join keys ljust lower lstrip partition pop remove replace reverse rfind rjust rpartition rsplit rstrip setdefault "
+    "split splitlines startswith strip update upper values zfill bit_length"
+).split()
 TWO_UNDERSCORES = "__init__ __eq__ __repr__ __str__ __len__".split()
 WORDS_OUT = re.compile(
     r"\b(type|typing|typing_extensions|enum|Enum|IntEnum|StrEnum|Flag|IntFlag|Generic|Protocol|ABC|ABCMeta|namedtuple"
@@ -32,6 +37,24 @@ def source_of(path):
 
 def nodes_of(path):
     return list(ast.walk(ast.parse(source_of(path))))
+
+
+def names_of(nodes):
+    return [node.id for node in nodes if isinstance(node, ast.Name)]
+
+
+def drawn_from(path):
+    return [node.module.partition(".")[2] for node in nodes_of(path) if isinstance(node, ast.ImportFrom)]
+
+
+def own_methods():
+    classes = [node for path in FILES for node in nodes_of(path) if isinstance(node, ast.ClassDef)]
+    return [one.name for node in classes for one in node.body if isinstance(one, ast.FunctionDef)]
+
+
+def own_values():
+    nodes = [node for path in FILES for node in nodes_of(path)]
+    return [node.attr for node in nodes if isinstance(node, ast.Attribute) and isinstance(node.ctx, ast.Store)]
 
 
 class Language(unittest.TestCase):
@@ -83,13 +106,11 @@ class Language(unittest.TestCase):
 
     def test_names(self):
         def names_out(path):
-            nodes = nodes_of(path)
-            found = [node.id for node in nodes if isinstance(node, ast.Name)]
-            return [name for name in found if hasattr(builtins, name) and name not in BUILT_IN]
+            return [name for name in names_of(nodes_of(path)) if hasattr(builtins, name) and name not in BUILT_IN]
 
         def underscored(path):
             nodes = nodes_of(path)
-            found = [node.id for node in nodes if isinstance(node, ast.Name)]
+            found = names_of(nodes)
             found += [node.attr for node in nodes if isinstance(node, ast.Attribute)]
             found += [node.arg for node in nodes if isinstance(node, ast.arg)]
             found += [node.name for node in nodes if isinstance(node, (ast.FunctionDef, ast.ClassDef))]
@@ -97,6 +118,53 @@ class Language(unittest.TestCase):
 
         self.assert_in_no_file(names_out)
         self.assert_in_no_file(underscored)
+
+    def test_locals(self):
+        methods = own_methods()
+
+        def called_alike(path):
+            nodes = nodes_of(path)
+            bound = [node.id for node in nodes if isinstance(node, ast.Name) and isinstance(node.ctx, ast.Store)]
+            bound += [node.arg for node in nodes if isinstance(node, ast.arg)]
+            taken = [node.name for node in nodes if isinstance(node, (ast.ClassDef, ast.FunctionDef, ast.alias))]
+            taken = [name for name in taken if name not in methods]
+            return [name for name in bound if name in taken or hasattr(builtins, name)]
+
+        self.assert_in_no_file(called_alike)
+
+    def test_methods_and_values(self):
+        self.assertEqual([], sorted(set(own_methods()) & set(own_values())))
+        free = METHODS + own_methods()
+        plain = [name for kind in (str, int, list, dict, set, bytes, tuple) for name in dir(kind)]
+        self.assertEqual([], [
+            name for name in own_methods() + own_values()
+            if name in plain and name not in METHODS and name not in TWO_UNDERSCORES
+        ])
+        self.assert_in_no_file(lambda path: [
+            node.func.attr for node in nodes_of(path)
+            if isinstance(node, ast.Call) and isinstance(node.func, ast.Attribute) and node.func.attr not in free
+        ])
+
+    def test_one_for_one_target_plain_parameters(self):
+        self.assert_in_no_file(lambda path: [
+            node.lineno for node in nodes_of(path) if isinstance(node, ast.ListComp)
+            and (len(node.generators) > 1 or len(node.generators[0].ifs) > 1)
+        ])
+        self.assert_in_no_file(lambda path: [
+            node.lineno for node in nodes_of(path) if isinstance(node, ast.Assign) and len(node.targets) > 1
+        ])
+        self.assert_in_no_file(lambda path: [
+            node.name for node in nodes_of(path) if isinstance(node, (ast.FunctionDef, ast.ClassDef))
+            and (node.decorator_list or (isinstance(node, ast.FunctionDef) and (
+                node.args.vararg or node.args.kwarg or node.args.kwonlyargs)))
+        ])
+
+    def test_no_two_files_draw_from_one_another(self):
+        for path in FILES:
+            reached = drawn_from(path)
+            for module in reached:
+                reached += [one for one in drawn_from(FOLDER / f"{module}.py") if one not in reached]
+            self.assertNotIn(path.stem, reached)
 
 
 if __name__ == "__main__":
