@@ -66,3 +66,33 @@ def refusal(call, *arguments):
     except Exception as error:
         return type(error)
     return None
+
+
+def parts_of(text):
+    parts = [[]]
+    for piece in text.split():
+        if piece == ";":
+            parts.append([])
+        else:
+            parts[-1].append(piece)
+    return [" ".join(part) for part in parts]
+
+
+def balanced(joins, leaf, form):
+    """A leaf joined with itself so many times, as flat as can be."""
+    if joins == 0:
+        return leaf
+    one = (joins - 1) // 2
+    return form.format(balanced(one, leaf, form), balanced(joins - 1 - one, leaf, form))
+
+
+def long_saying(number):
+    """A saying of so many words, 297 to 301."""
+    if number == 301:
+        return balanced(75, "yes", "[ {} and {} ]")
+    leaf = {297: "yes", 299: "1 < 2", 300: "[ not yes ]"}[number]
+    return balanced(74, "yes", "[ {} and {} ]").replace("yes", leaf, 1)
+
+
+def squares(depth, inner="yes"):
+    return "[ not " * depth + inner + " ]" * depth

@@ -7,7 +7,7 @@ from nearerwork.errors import NoText, TooMany
 from nearerwork.phrases import read_saying, read_sum
 from nearerwork.sayings import AtMost, Both, Either, Equal, Less, Not, Saying, Unlike
 from nearerwork.sums import Minus, Named, Number, Plus, Sum, Times
-from tests.helper import SAYING, SUM, blanks, matches, refusal, spoiled
+from tests.helper import SAYING, SUM, balanced, blanks, long_saying, matches, refusal, spoiled, squares
 
 GREAT = 10 ** 40
 VALUES = ({"x": 0, "y": 0, "@x": 0}, {"x": 2, "y": -3, "@x": 7}, {"x": GREAT, "y": -GREAT, "@x": GREAT + 1},
@@ -63,17 +63,6 @@ NOT_SAYINGS = (
 
 def brackets(depth):
     return "( 1 + " * depth + "x" + " )" * depth
-
-
-def squares(depth, inner="yes"):
-    return "[ not " * depth + inner + " ]" * depth
-
-
-def balanced(joins, leaf, form):
-    if joins == 0:
-        return leaf
-    one = (joins - 1) // 2
-    return form.format(balanced(one, leaf, form), balanced(joins - 1 - one, leaf, form))
 
 
 def same_values(values):
@@ -207,8 +196,7 @@ class Bounds(unittest.TestCase):
         self.assertIs(NoText, refusal(read_sum, longer + " X"))
 
     def test_sayings_of_300_and_301_words(self):
-        long = balanced(74, "yes", "[ {} and {} ]").replace("yes", "[ not yes ]", 1)
-        longer = balanced(75, "yes", "[ {} and {} ]")
+        long, longer = long_saying(300), long_saying(301)
         self.assertEqual((300, 301), (len(long.split()), len(longer.split())))
         self.assertIs(False, read_saying(long).holds({}))
         self.assertEqual(long, read_saying(long).shown())
