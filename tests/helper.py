@@ -4,7 +4,7 @@ import itertools
 import random
 import re
 
-from nearerwork.machinetexts import read_machine
+from nearerwork.machinetexts import read_machine, shown_machine
 from nearerwork.tietexts import read_tie
 
 OWN_WORDS = "name from to at keep deed when do any and or not yes tie step for none falls".split()
@@ -254,3 +254,62 @@ def some_pairs(number, rooms=1, free=0.3):
         if len(rooms_come_to(pair[1])) >= rooms:
             pairs.append(pair)
     return pairs
+
+
+def closed_by_point_19(far, near, table, pairs):
+    if any(not one < other for one, other in zip(pairs, pairs[1:])):
+        return False
+    among = set(pairs)
+    return (far.first(), near.first()) in among and all(fits_among(far, near, table, pair, among) for pair in among)
+
+
+def fits_among(far, near, table, pair, among):
+    """What point 19 says of each pair."""
+    far_room, room = pair
+    steps = steps_of(near, room)
+    for called, behind in steps:
+        stood_for = dict(table)[called]
+        far_behind = [far_room] if stood_for is None else far.behind(far_room, stood_for)
+        if not any((one, behind) in among for one in far_behind):
+            return False
+    return bool(steps) or not goes(far, far_room)
+
+
+def some_nearer(far, name, chance):
+    """A machine much like far, with one name more and quiet deeds, and a tie of it to far."""
+    deeds = [part for part in parts_of(shown_machine(far)) if part.startswith("deed")]
+    names = [part for part in parts_of(shown_machine(far)) if part.startswith("name")]
+    most = chance.randrange(1, 4)
+    names.append(f"name {name} from 0 to {most} at {chance.randint(0, most)}")
+    table = {}
+    for number, deed in enumerate(deeds):
+        called = deed.split()[1]
+        table[called] = called if chance.random() < 0.9 else chance.choice([one.called for one in far.deeds] + ["none"])
+        if chance.random() < 0.5:
+            guard = chance.choice([f"{name} = 0", f"0 < {name}", f"{name} < 2"])
+            head, do, changes = deed.partition(" do ")
+            deeds[number] = head.replace("when ", f"when [ {guard} and ", 1) + " ]" + do + changes
+        if chance.random() < 0.3 and " do " in deeds[number] and deeds[number].count(" , ") < 2:
+            deeds[number] += f" , {name} any 0 to {most}"
+    if len(deeds) < 6:
+        called = "quiet" + name
+        deeds.append(f"deed {called} when {chance.choice(['yes', f'0 < {name}'])} do {name} = ( {name} - 1 )")
+        table[called] = "none"
+    own = [f"@{place[0]} = {place[0]}" for place in far.places if chance.random() < 0.9]
+    saying = "yes"
+    for one in own:
+        saying = one if saying == "yes" else f"[ {saying} and {one} ]"
+    near = read_machine(" ; ".join(names + deeds))
+    steps = [f"step {called} for {stood_for}" for called, stood_for in table.items()]
+    return near, read_tie(" ; ".join([f"tie {saying}"] + steps + [f"falls {name}"]), far, near)
+
+
+def some_chain(number, free=0.3):
+    """Three machines, far, middle and near, and the ties of the middle one and of the near one."""
+    chance = random.Random(number)
+    name = some_names(chance, "x")
+    deeds = [some_deed(chance, called, "x", free) for called in "abc"[:chance.randrange(1, 4)]]
+    far = read_machine(" ; ".join(name + deeds))
+    middle, to_far = some_nearer(far, "y", chance)
+    near, to_middle = some_nearer(middle, "z", chance)
+    return far, middle, near, to_far, to_middle
